@@ -1,0 +1,1 @@
+"""Nextguess: the answer that is not shown, guessed as well as can be."""

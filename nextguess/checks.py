@@ -1,0 +1,23 @@
+"""What several modules demand of their arguments, with the error it raises."""
+
+from nextguess.basics import is_point
+from nextguess.errors import InvalidLot, InvalidPoint, InvalidRow
+from nextguess.rows import is_lot, is_row
+
+
+def demand_row(row, size):
+    """Raise InvalidRow unless row is a row of so many values."""
+    if not is_row(row, size):
+        raise InvalidRow(row)
+
+
+def demand_lot(lot, size):
+    """Raise InvalidLot unless lot is a lot of points below size."""
+    if not is_lot(lot, size):
+        raise InvalidLot(lot)
+
+
+def demand_point(point, size):
+    """Raise InvalidPoint unless point is a number below size."""
+    if not is_point(point, size):
+        raise InvalidPoint(point)

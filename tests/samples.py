@@ -1,0 +1,81 @@
+"""Values and lists that the tests share, and plain words of DOC.md written out."""
+
+from itertools import combinations, product
+
+from nextguess.errors import InvalidNumber
+from nextguess.lists import Rules
+
+
+def nested(depth, make):
+    """A value nested so deep, each layer made by make of one member."""
+    value = 1
+    for _ in range(depth):
+        value = make([value])
+    return value
+
+
+def odd_values():
+    """Values of every kind that DOC.md counts as any value at all, none a row, lot or share."""
+    return [
+        None, True, False, 0, 1, -1, 2, 10 ** 12, "", "0", "01", "lot", "dimension",
+        [], [0], [1], [0, 1], [(0, 1)], [()], [[]], (None,), ("",), ("0", "1"), ((),), ([],), ((0,),),
+        (True,), (False,), (True, False), (0, True), (False, 1), (2, False), (-1,), (-1, 1), (0, -1), (0, 0), (2, 2), (0, None),
+        (0, [1]), ((0, 1), (1, 0)), ([0], [1]), (2, 1), (1, 0, 0, 0, 0, 0, 0, 0, 0, 0, 0),
+        Rules(1, [(0,)]), Rules(0, [()]), (Rules(1, [(0,)]),), InvalidNumber(0), (InvalidNumber(0), 1),
+        nested(30, list), nested(30, tuple), nested(40, tuple),
+    ]
+
+
+def rows_by_hand(size):
+    """All rows of so many values, ascending."""
+    return list(product((0, 1), repeat=size))
+
+
+def lots_by_hand(size):
+    """All lots of points below size, those of fewer points ahead."""
+    return [lot for many in range(size + 1) for lot in combinations(range(size), many)]
+
+
+def small_lists():
+    """Every list of up to 3 points."""
+    lists = []
+    for size in range(4):
+        rows = rows_by_hand(size)
+        for chosen in range(1, 2 ** len(rows)):
+            lists.append(Rules(size, [row for k, row in enumerate(rows) if chosen >> k & 1]))
+    return lists
+
+
+def scattered(size, step, start=0):
+    """A list of so many points that takes every so manyth row from a start on."""
+    rows = rows_by_hand(size)
+    return Rules(size, [rows[(start + k * step) % len(rows)] for k in range(max(1, len(rows) // 2 - step))])
+
+
+def full(size):
+    """The list of all rows."""
+    return Rules(size, rows_by_hand(size))
+
+
+def larger_lists():
+    """Some lists of 4 to 6 points, of few, some and many rules."""
+    stretches = [tuple(int(a <= k < b) for k in range(5)) for a in range(6) for b in range(a, 6)]
+    steps = [tuple(int(k >= t) for k in range(6)) for t in range(7)]
+    parities = [tuple(sum(a & b for a, b in zip(p, q)) % 2 for q in rows_by_hand(2)) for p in rows_by_hand(2)]
+    return [
+        Rules(5, stretches), Rules(6, steps), Rules(4, parities), full(4), full(6),
+        Rules(4, [(0, 1, 1, 0)]), Rules(5, [(0, 0, 0, 0, 0), (1, 1, 1, 1, 1)]),
+        scattered(4, 3), scattered(5, 7, 2), scattered(5, 3), scattered(6, 11, 5), scattered(6, 5),
+        Rules(6, [row for row in rows_by_hand(6) if sum(row) <= 3]),
+        Rules(6, [row for row in rows_by_hand(6) if sum(row) % 2 == 0]),
+        Rules(6, [row for row in rows_by_hand(6) if row != (1, 0, 1, 0, 1, 0)]),
+    ]
+
+
+def largest_lists():
+    """Some lists of 8 points."""
+    return [
+        full(8), Rules(8, [(0,) * 8]), scattered(8, 5), scattered(8, 37, 3),
+        Rules(8, [row for row in rows_by_hand(8) if sum(row) <= 4]),
+        Rules(8, [row for row in rows_by_hand(8) if row != (1,) * 8]),
+    ]
