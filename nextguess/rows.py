@@ -36,3 +36,8 @@ def all_lots(size):
 def read_at(row, lot):
     """Return the row of the values at the points of the lot."""
     return tuple([row[point] for point in lot])
+
+
+def with_value(row, point, value):
+    """Return the row that has this value at the point, and at all others what the row has."""
+    return row[:point] + (value,) + row[point + 1:]

@@ -36,6 +36,31 @@ def lots_by_hand(size):
     return [lot for many in range(size + 1) for lot in combinations(range(size), many)]
 
 
+def seen_by_hand(rules, lot):
+    """What the rules read at a lot, ascending."""
+    return tuple(sorted({tuple(row[point] for point in lot) for row in rules.rows}))
+
+
+def exchanged_at(value, place, members):
+    """The tuple with these members in place of the one at a place."""
+    return value[:place] + members + value[place + 1:]
+
+
+def spoilt(value):
+    """What comes when a value made of tuples, integers and words is changed at one place."""
+    if type(value) is int:
+        return [value + 1, value - 1, bool(value), not value, None, str(value), (value,), [value], 10 ** 12]
+    if type(value) is str:
+        return ["", value + " ", value[:-1], value.upper(), "misses", None, 0, (value,), [value]]
+    found = [list(value), (value,), value + (None,), value + ((),), (), None, True, 0, "", Rules(0, [()])]
+    for place, member in enumerate(value):
+        found += [exchanged_at(value, place, (other,)) for other in spoilt(member)]
+        found += [exchanged_at(value, place, ()), exchanged_at(value, place, (member, member))]
+    for place in range(1, len(value)):
+        found.append(value[:place - 1] + (value[place], value[place - 1]) + value[place + 1:])
+    return found
+
+
 def small_lists():
     """Every list of up to 3 points."""
     lists = []

@@ -20,6 +20,14 @@ INTERFACE = {
         "is_row": ["value", "size"], "all_rows": ["size"], "is_lot": ["value", "size"], "all_lots": ["size"],
         "read_at": ["row", "lot"],
     },
+    "texts": {"write_rules": ["rules"], "read_rules": ["text"]},
+    "freedom": {
+        "is_free": ["rules", "lot"], "is_strongly_free": ["rules", "lot"], "free_lots": ["rules"],
+        "strong_lots": ["rules"], "dimension": ["rules"], "lots_up_to": ["size", "d"], "dimension_paper": ["rules"],
+        "dimension_holds": ["rules", "claim", "paper"],
+    },
+    "pushing": {"pushed_at": ["rules", "point"], "is_down": ["rules"], "pushed_down": ["rules"]},
+    "webs": {"ties_of": ["rules"], "ties_within": ["rules", "part"]},
 }
 
 METHODS = {
@@ -34,6 +42,11 @@ METHODS = {
 BUILTINS = (
     "len range enumerate zip min max sum abs sorted reversed int str bool bytes list tuple dict set isinstance ord repr "
     "any all divmod super ValueError"
+).split()
+VALUE_METHODS = "append count extend find get index insert items join keys pop split startswith strip values".split()
+BARRED_WORDS = (
+    "register mro elements open input law version_info with_traceback add_note compile copyright credits dir eval exec "
+    "exit gc globals help id importlib license locals os quit vars sys enum typing format type"
 ).split()
 LIBRARY = {
     "math": ("gcd", "lcm", "isqrt", "comb", "perm", "factorial"),
@@ -53,6 +66,12 @@ def trees():
 def nodes_of(kind):
     """All nodes of a kind, each with its file."""
     return [(path, node) for path, tree in trees() for node in ast.walk(tree) if isinstance(node, kind)]
+
+
+def imported_by(tree):
+    """The modules of the package that a file imports from."""
+    found = [node.module for node in ast.walk(tree) if isinstance(node, ast.ImportFrom)]
+    return {module.split(".")[1] for module in found if module not in LIBRARY}
 
 
 class Interface(unittest.TestCase):
@@ -79,6 +98,25 @@ class Interface(unittest.TestCase):
 
 
 class Form(unittest.TestCase):
+    def test_no_two_files_import_from_each_other(self):
+        left = {path.stem: imported_by(tree) for path, tree in trees()}
+        while left:
+            ready = [name for name, imported in left.items() if not imported & set(left)]
+            self.assertTrue(ready, left)
+            left = {name: imported for name, imported in left.items() if name not in ready}
+
+    def test_methods_of_builtin_values(self):
+        own = {name for methods in METHODS.values() for name in methods}
+        for path, node in nodes_of(ast.Call):
+            if isinstance(node.func, ast.Attribute):
+                self.assertIn(node.func.attr, set(VALUE_METHODS) | own, (path, node.lineno))
+
+    def test_no_barred_words(self):
+        for path, tree in trees():
+            for node in ast.walk(tree):
+                for name in ("id", "attr", "arg", "name"):
+                    self.assertNotIn(getattr(node, name, None), BARRED_WORDS, (path, getattr(node, "lineno", 0)))
+
     def test_the_folder_holds_plain_files_only(self):
         names = [path.name for path in FOLDER.iterdir() if path.name != "__pycache__"]
         self.assertEqual(sorted(names), [path.name for path in FILES])

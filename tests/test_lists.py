@@ -1,46 +1,17 @@
-import unittest
 from unittest import mock
 
 from nextguess.errors import InvalidLot, InvalidRow, InvalidRules, InvalidShown, Undefined
 from nextguess.lists import Rules
-from tests.samples import full, largest_lists, larger_lists, lots_by_hand, odd_values, rows_by_hand, scattered, small_lists
+from tests.cases import Lists
+from tests.samples import (
+    full, larger_lists, largest_lists, lots_by_hand, odd_values, rows_by_hand, scattered, seen_by_hand, small_lists,
+)
 
 SOME = Rules(3, [(1, 0, 0), (0, 1, 1), (0, 0, 0), (1, 1, 1)])
 
 
-def is_plain(rules):
-    """Whether the attributes are of the kinds that DOC.md tells: no list, no boolean within."""
-    return (
-        type(rules) is Rules and type(rules.size) is int and type(rules.rows) is tuple and len(rules.rows) > 0
-        and all(type(row) is tuple and len(row) == rules.size for row in rules.rows)
-        and all(type(value) is int and value in (0, 1) for row in rules.rows for value in row)
-        and list(rules.rows) == sorted(set(rules.rows))
-    )
-
-
-def seen_by_hand(rules, lot):
-    return tuple(sorted({tuple(row[point] for point in lot) for row in rules.rows}))
-
-
 def joined_by_hand(rules, other, join):
     return tuple(sorted({tuple(join(a, b) for a, b in zip(one, two)) for one in rules.rows for two in other.rows}))
-
-
-class Lists(unittest.TestCase):
-    def assert_rules(self, rules, size, rows):
-        self.assertTrue(is_plain(rules))
-        self.assertEqual((rules.size, rules.rows), (size, tuple(rows)))
-
-    def assert_raises_with(self, error, attribute, value, call, *arguments, **named):
-        """The error is raised, of just this class, and keeps the value: itself, or an equal one."""
-        with self.assertRaises(error) as caught:
-            call(*arguments, **named)
-        self.assertIs(type(caught.exception), error)
-        kept = getattr(caught.exception, attribute)
-        if attribute == "value":
-            self.assertIs(kept, value)
-        else:
-            self.assertEqual(kept, value)
 
 
 class Making(Lists):
@@ -377,20 +348,8 @@ class Staying(Lists):
             (rules.fitting, (((0, row[0]),),)), (rules.fitting, (((0, True),),)), (rules.seen_at, ((99,),)),
         ]
 
-    def outcome(self, call, arguments):
-        try:
-            return call(*arguments)
-        except ValueError as error:
-            return (type(error), vars(error))
-
     def test_lists_stay_and_the_same_call_returns_the_same(self):
         for rules in (SOME, full(3), Rules(1, [(1,)]), scattered(5, 3), scattered(8, 37, 3), full(8)):
             other = Rules(rules.size, rules.rows[-1:])
-            size, rows = rules.size, tuple(rules.rows)
-            twin = Rules(size, rows)
             for call, arguments in self.calls(rules, other):
-                first = self.outcome(call, arguments)
-                self.assertEqual(self.outcome(call, arguments), first)
-                self.assertEqual((rules.size, rules.rows), (size, rows))
-                self.assertEqual(rules, twin)
-                self.assertEqual((other.size, other.rows), (size, rows[-1:]))
+                self.assert_stays((rules, other), call, *arguments)
