@@ -1,13 +1,25 @@
 """What several modules demand of their arguments, with the error it raises."""
 
-from nextguess.basics import is_point
-from nextguess.errors import InvalidLot, InvalidPoint, InvalidRow
+from nextguess.basics import is_number, is_point
+from nextguess.errors import InvalidLot, InvalidNumber, InvalidPoint, InvalidRow
 from nextguess.rows import is_lot, is_row
+
+
+def demand_number(value):
+    """Raise InvalidNumber unless value is a number."""
+    if not is_number(value):
+        raise InvalidNumber(value)
 
 
 def demand_row(row, size):
     """Raise InvalidRow unless row is a row of so many values."""
     if not is_row(row, size):
+        raise InvalidRow(row)
+
+
+def demand_rule(rules, row):
+    """Raise InvalidRow unless row is a rule of the list."""
+    if not rules.has(row):
         raise InvalidRow(row)
 
 

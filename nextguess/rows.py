@@ -28,9 +28,14 @@ def lots_of(size, many):
     return list(combinations(range(size), many))
 
 
+def lots_to(size, most):
+    """Return all lots of at most so many points below size, those of fewer points ahead."""
+    return tuple([lot for many in range(min(size, most) + 1) for lot in lots_of(size, many)])
+
+
 def all_lots(size):
     """Return all lots of points below size, those of fewer points ahead."""
-    return tuple([lot for many in range(size + 1) for lot in lots_of(size, many)])
+    return lots_to(size, size)
 
 
 def read_at(row, lot):

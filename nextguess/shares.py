@@ -13,6 +13,16 @@ def is_share(value):
     return value[1] > 0 and gcd(value[0], value[1]) == 1
 
 
+def is_chance(value):
+    """Tell whether value, whatever it is, is a share from 0 to 1."""
+    return is_share(value) and 0 <= value[0] <= value[1]
+
+
+def are_chances(value, many):
+    """Tell whether value, whatever it is, is a tuple of so many chances."""
+    return isinstance(value, tuple) and len(value) == many and all([is_chance(member) for member in value])
+
+
 def share_of(a, b):
     """Return the share that is a divided by b, two integers."""
     if b == 0:
@@ -56,6 +66,15 @@ def total_of(shares):
     for share in shares:
         total = plus(total, share)
     return total
+
+
+def greatest_of(shares):
+    """Return the greatest of a sequence of shares, of at least one."""
+    greatest = shares[0]
+    for share in shares:
+        if is_below(greatest, share):
+            greatest = share
+    return greatest
 
 
 def rounded_up(one):

@@ -22,9 +22,14 @@ def is_part(rules, value):
     return is_lot(value, len(rules)) and len(value) > 0
 
 
+def inside(ties, part):
+    """Return the numbers of the ties that have both rules in the part."""
+    chosen = {number: True for number in part}
+    return [k for k, (i, j, _) in enumerate(ties) if i in chosen and j in chosen]
+
+
 def ties_within(rules, part):
     """Return how many ties have both rules in the part."""
     if not is_part(rules, part):
         raise InvalidPart(part)
-    chosen = {number: True for number in part}
-    return len([1 for i, j, _ in ties_of(rules) if i in chosen and j in chosen])
+    return len(inside(ties_of(rules), part))

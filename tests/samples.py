@@ -51,7 +51,8 @@ def spoilt(value):
     if type(value) is int:
         return [value + 1, value - 1, bool(value), not value, None, str(value), (value,), [value], 10 ** 12]
     if type(value) is str:
-        return ["", value + " ", value[:-1], value.upper(), "misses", None, 0, (value,), [value]]
+        other = "mean" if value == "misses" else "misses"
+        return ["", value + " ", value[:-1], value.upper(), other, None, 0, (value,), [value]]
     found = [list(value), (value,), value + (None,), value + ((),), (), None, True, 0, "", Rules(0, [()])]
     for place, member in enumerate(value):
         found += [exchanged_at(value, place, (other,)) for other in spoilt(member)]

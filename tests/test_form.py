@@ -28,6 +28,18 @@ INTERFACE = {
     },
     "pushing": {"pushed_at": ["rules", "point"], "is_down": ["rules"], "pushed_down": ["rules"]},
     "webs": {"ties_of": ["rules"], "ties_within": ["rules", "part"]},
+    "guesses": {
+        "misses_of": ["rules", "guess"], "least_worst": ["rules"], "best_guess": ["rules"], "misses_paper": ["rules"],
+        "misses_holds": ["rules", "claim", "paper"],
+    },
+    "drawn": {
+        "means_of": ["rules", "drawn"], "least_mean": ["rules"], "best_drawn": ["rules"], "mean_paper": ["rules"],
+        "mean_holds": ["rules", "claim", "paper"],
+    },
+    "lotwise": {
+        "misses_at": ["rules", "lot"], "mean_at": ["rules", "lot"], "most_misses": ["rules", "m"],
+        "most_mean": ["rules", "m"],
+    },
 }
 
 METHODS = {
@@ -36,6 +48,9 @@ METHODS = {
         "turned": ["row"], "both": ["other"], "either": ["other"], "unlike": ["other"], "beside": ["other"],
         "with_rule": ["row"], "without": ["row"], "others": [], "is_closed": [], "is_shown": ["value"],
         "fitting": ["shown"],
+    },
+    ("guessers", "Guesser"): {
+        "__init__": ["rules", "kind"], "__eq__": ["other"], "yes": ["shown", "point"], "misses": ["lot", "row"],
     },
 }
 
@@ -106,7 +121,7 @@ class Form(unittest.TestCase):
             left = {name: imported for name, imported in left.items() if name not in ready}
 
     def test_methods_of_builtin_values(self):
-        own = {name for methods in METHODS.values() for name in methods}
+        own = {node.name for _, place in nodes_of(ast.ClassDef) for node in place.body if isinstance(node, ast.FunctionDef)}
         for path, node in nodes_of(ast.Call):
             if isinstance(node.func, ast.Attribute):
                 self.assertIn(node.func.attr, set(VALUE_METHODS) | own, (path, node.lineno))

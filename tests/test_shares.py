@@ -3,13 +3,10 @@ from fractions import Fraction
 
 from nextguess.errors import InvalidNumber, Undefined
 from nextguess.shares import is_below, is_share, less, over, plus, rounded_up, share_of, times, total_of
+from tests.byhand import pair
 from tests.samples import odd_values
 
 SHARES = [(0, 1), (1, 1), (-1, 1), (1, 2), (-1, 2), (2, 3), (-7, 3), (16, 11), (999999999998, 7), (1, 999999999999)]
-
-
-def pair(fraction):
-    return (fraction.numerator, fraction.denominator)
 
 
 class IsShare(unittest.TestCase):

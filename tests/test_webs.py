@@ -3,23 +3,11 @@ from itertools import combinations
 from nextguess.errors import InvalidPart
 from nextguess.lists import Rules
 from nextguess.webs import ties_of, ties_within
+from tests.byhand import ties_by_hand, within_by_hand
 from tests.cases import Lists, is_made_of_tuples
 from tests.samples import full, larger_lists, largest_lists, odd_values, scattered, small_lists
 
 SOME = Rules(3, [(0, 0, 0), (0, 0, 1), (0, 1, 1), (1, 0, 1), (1, 1, 0)])
-
-
-def ties_by_hand(rules):
-    ties = []
-    for i, j in combinations(range(len(rules)), 2):
-        differ = [point for point in range(rules.size) if rules.rows[i][point] != rules.rows[j][point]]
-        if len(differ) == 1:
-            ties.append((i, j, differ[0]))
-    return tuple(sorted(ties))
-
-
-def within_by_hand(rules, part):
-    return len([1 for i, j, _ in ties_by_hand(rules) if i in part and j in part])
 
 
 class Ties(Lists):
