@@ -1,4 +1,4 @@
-"""What counts as an integer, a number, a value and a point."""
+"""What counts as an integer, a number, a value and a point; powers."""
 
 MOST_POINTS = 8
 
@@ -26,3 +26,11 @@ def is_point(value, size):
 def is_pair(value):
     """Tell whether value is a tuple of two members."""
     return isinstance(value, tuple) and len(value) == 2
+
+
+def power(base, many):
+    """Return the product of so many times the base: 1 of none."""
+    result = 1
+    for _ in range(many):
+        result = result * base
+    return result

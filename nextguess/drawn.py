@@ -2,7 +2,7 @@
 
 from nextguess.basics import is_pair
 from nextguess.errors import InvalidGuess
-from nextguess.shares import are_chances, is_below, is_share, less, plus, share_of
+from nextguess.shares import are_chances, is_below, is_share, less, plus, share_of, times
 from nextguess.spreads import densest
 from nextguess.webs import is_part, ties_of, ties_within
 
@@ -23,14 +23,20 @@ def as_drawn(guess):
     return tuple([(value, 1) for value in guess])
 
 
+def sums_of(rules, weights, drawn):
+    """Return for each rule the chances that the other value is guessed, each times its point's weight, added up."""
+    sums = [(0, 1)] * len(rules)
+    for (i, j, point), yes in zip(ties_of(rules), drawn):
+        # The first rule of a tie has no at its point, the second yes.
+        sums[i] = plus(sums[i], times(weights[point], yes))
+        sums[j] = plus(sums[j], times(weights[point], less((1, 1), yes)))
+    return tuple(sums)
+
+
 def means_of(rules, drawn):
     """Return for each rule the sum of the chances that the other value is guessed."""
     demand_drawn(rules, drawn)
-    means = [(0, 1)] * len(rules)
-    for (i, j, _), yes in zip(ties_of(rules), drawn):
-        means[i] = plus(means[i], yes)
-        means[j] = plus(means[j], less((1, 1), yes))
-    return tuple(means)
+    return sums_of(rules, [(1, 1)] * rules.size, drawn)
 
 
 def evenest(rules):

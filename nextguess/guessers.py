@@ -1,7 +1,7 @@
 """Guessers: what is guessed at a point when the answers at other points are shown."""
 
 from nextguess.basics import is_point
-from nextguess.checks import demand_lot, demand_rule
+from nextguess.checks import demand_closed, demand_lot, demand_rule
 from nextguess.drawn import as_drawn, best_drawn
 from nextguess.errors import InvalidPoint, InvalidRules, InvalidShown, Undefined
 from nextguess.guesses import best_guess
@@ -60,8 +60,8 @@ class Guesser:
             raise InvalidRules(rules)
         if kind not in KINDS:
             raise Undefined("kind")
-        if kind == "closing" and not rules.is_closed():
-            raise Undefined("and")
+        if kind == "closing":
+            demand_closed(rules)
         self.rules = rules
         self.kind = kind
 

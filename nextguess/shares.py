@@ -1,6 +1,6 @@
 """Shares: exact fractions as pairs (a, b), b above 0, in lowest terms."""
 
-from math import gcd
+from math import gcd, lcm
 
 from nextguess.basics import is_an_integer, is_pair
 from nextguess.errors import InvalidNumber, Undefined
@@ -75,6 +75,24 @@ def greatest_of(shares):
         if is_below(greatest, share):
             greatest = share
     return greatest
+
+
+def are_one_together(value, many):
+    """Tell whether value, whatever it is, is a tuple of so many chances that are together 1."""
+    return are_chances(value, many) and total_of(value) == (1, 1)
+
+
+def over_common(shares):
+    """Return what stands above when all shares stand over one integer, and this integer."""
+    common = 1
+    for share in shares:
+        common = lcm(common, share[1])
+    return [share[0] * (common // share[1]) for share in shares], common
+
+
+def lesser_of(one, other):
+    """Return the lesser of two shares."""
+    return one if is_below(one, other) else other
 
 
 def rounded_up(one):

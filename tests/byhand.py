@@ -118,3 +118,21 @@ def fitting_by_hand(rules, shown):
 
 def read_by_hand(row, lot):
     return tuple(row[point] for point in lot)
+
+
+def are_one_by_hand(value, many):
+    """Whether value is a tuple of so many chances that are together 1."""
+    if type(value) is not tuple or len(value) != many or not all(is_chance_by_hand(member) for member in value):
+        return False
+    return sum(map(fraction, value)) == 1
+
+
+def is_closed_by_hand(rules):
+    """Whether the and of each two rules is a rule."""
+    rows = set(rules.rows)
+    return all(tuple(a & b for a, b in zip(one, other)) in rows for one in rows for other in rows)
+
+
+def kinds_of(rules):
+    """The kinds of which a list has a guesser."""
+    return [kind for kind in ("best", "drawn", "closing", "most") if kind != "closing" or is_closed_by_hand(rules)]

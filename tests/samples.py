@@ -1,9 +1,19 @@
 """Values and lists that the tests share, and plain words of DOC.md written out."""
 
+from fractions import Fraction
 from itertools import combinations, product
 
 from nextguess.errors import InvalidNumber
 from nextguess.lists import Rules
+
+NO_CHANCES = [
+    (2, 4), (0, 2), (2, 2), (0, 0), (1, 0), (0, -1), (-1, -1), (1, -2), (3, 2), (2, 1), (-1, 2), (-1, 1), (1,), (1, 2, 3),
+    (), [1, 2], (True, 1), (1, True), (False, 1), (True, 2), 0, 1, True, None, "", "1/2", ("1", "2"), (None, 1), ((1, 2), 1),
+    (1, (2,)), 10 ** 12, Rules(0, [()]),
+]
+
+# A source of 6 points, of 4 figures: over one integer its chances need 12 figures.
+UNEVEN = ((1106, 9991), (1138, 9797), (1535, 8989), (1213, 9523), (1977, 8453), (1962, 8137))
 
 
 def nested(depth, make):
@@ -39,6 +49,16 @@ def lots_by_hand(size):
 def seen_by_hand(rules, lot):
     """What the rules read at a lot, ascending."""
     return tuple(sorted({tuple(row[point] for point in lot) for row in rules.rows}))
+
+
+def no_lots(size):
+    """Values that are no lot of points below a size, at least 2."""
+    wrong = [
+        [0], [], (0, size), (size,), (size - 1, 0), (1, 1), (-1, 0), (0, True), (False, 1), ("0",), (0, None), None, "0", 0,
+        tuple(range(size + 1)),
+    ]
+    right = lots_by_hand(size)
+    return [lot for lot in odd_values() + wrong if lot not in right or any(type(point) is not int for point in lot)]
 
 
 def exchanged_at(value, place, members):
@@ -105,3 +125,28 @@ def largest_lists():
         Rules(8, [row for row in rows_by_hand(8) if sum(row) <= 4]),
         Rules(8, [row for row in rows_by_hand(8) if row != (1,) * 8]),
     ]
+
+
+def sources_of(size):
+    """Some sources of so many points, from 1 on: like, unlike and steep chances, and chances that are 0."""
+    def parts(*numbers):
+        fractions = [Fraction(number, sum(numbers)) for number in numbers]
+        return tuple((fraction.numerator, fraction.denominator) for fraction in fractions)
+
+    found = [parts(*[1] * size), parts(*range(1, size + 1)), parts(*[3 ** k for k in range(size)])]
+    found += [parts(*[1] + [0] * (size - 1)), parts(*[0] * (size - 1) + [5]), parts(*[9998 - size] + [1] * (size - 1))]
+    if size > 1:
+        found += [parts(*[0] + [1] * (size - 1)), parts(*[k % 2 for k in range(size)]), parts(*[2] + [1] * (size - 2) + [0])]
+    return list(dict.fromkeys(found))
+
+
+def near_sources(size):
+    """Values that are nearly a source of so many points: spoilt at one place, or of another kind or size."""
+    found = [(), [], None, True, 0, 1, "", "1", (1,), ((),), ((1, 1), (1, 1)), ((1, 2),), ((1, 3), (1, 3)), (0, 1), (1, 1)]
+    found += sources_of(size + 1) + [((3, 2), (-1, 2)) + ((0, 1),) * (size - 2)]
+    for source in sources_of(max(1, size))[:3]:
+        found += [list(source), source + ((0, 1),), source + ((),), source[1:], source[:-1], (source,)]
+        found.append(tuple(list(chance) for chance in source))
+        for place in (0, len(source) - 1):
+            found += [exchanged_at(source, place, (member,)) for member in NO_CHANCES + [(1, 7919), (0, 1), (1, 1)]]
+    return found

@@ -36,6 +36,24 @@ INTERFACE = {
         "means_of": ["rules", "drawn"], "least_mean": ["rules"], "best_drawn": ["rules"], "mean_paper": ["rules"],
         "mean_holds": ["rules", "claim", "paper"],
     },
+    "sources": {
+        "is_source": ["value", "size"], "chance_of_lot": ["source", "lot", "m"],
+        "miss_chance": ["guesser", "row", "source", "m"], "last_miss_chance": ["guesser", "row", "lot"],
+        "miss_bound": ["rules", "m"], "examples_enough": ["rules", "chance"], "unavoidable": ["d", "m"],
+    },
+    "weighed": {
+        "chances_of": ["rules", "source", "drawn"], "least_chance": ["rules", "source"],
+        "best_weighed": ["rules", "source"], "chance_paper": ["rules", "source"],
+        "chance_holds": ["rules", "source", "claim", "paper"],
+    },
+    "priors": {
+        "is_prior": ["rules", "value"], "expected_misses": ["rules", "prior", "drawn"],
+        "least_expected": ["rules", "prior"], "guess_by_prior": ["rules", "prior"], "hardest_prior": ["rules"],
+    },
+    "keeping": {
+        "rebuilt": ["rules", "kept"], "keeps": ["rules", "row", "lot", "kept"], "fewest_kept": ["rules", "row", "lot"],
+        "most_kept": ["rules"],
+    },
     "lotwise": {
         "misses_at": ["rules", "lot"], "mean_at": ["rules", "lot"], "most_misses": ["rules", "m"],
         "most_mean": ["rules", "m"],

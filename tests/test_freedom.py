@@ -7,7 +7,7 @@ from nextguess.freedom import (
 from nextguess.lists import Rules
 from tests.cases import Lists, is_made_of_tuples
 from tests.samples import (
-    full, larger_lists, largest_lists, lots_by_hand, odd_values, rows_by_hand, scattered, seen_by_hand, small_lists, spoilt,
+    full, larger_lists, largest_lists, lots_by_hand, no_lots, odd_values, rows_by_hand, scattered, seen_by_hand, small_lists, spoilt,
 )
 
 SOME = Rules(3, [(0, 0, 0), (0, 0, 1), (0, 1, 0), (1, 1, 1)])
@@ -118,11 +118,7 @@ class Free(Lists):
                 self.assertIs(is_free(lot=lot, rules=rules), lot in free)
 
     def test_wrong_lots(self):
-        spoilt_lots = [[0], [], (0, 3), (3,), (2, 0), (1, 1), (-1, 0), (0, True), (False, 2), (0, 1, 2, 3), ("0",), (0, None)]
-        right = lots_by_hand(3)
-        for lot in odd_values() + spoilt_lots:
-            if lot in right and is_made_of_tuples(lot):
-                continue
+        for lot in no_lots(3):
             for ask in (is_free, is_strongly_free):
                 self.assert_raises_with(InvalidLot, "value", lot, ask, SOME, lot)
                 self.assert_raises_with(InvalidLot, "value", lot, ask, lot=lot, rules=SOME)

@@ -9,27 +9,18 @@ from nextguess.lotwise import mean_at, misses_at
 from nextguess.shares import less
 from nextguess.webs import ties_of
 from tests.byhand import (
-    fitting_by_hand, fraction, is_chance_by_hand, means_by_hand, read_by_hand, strongly_free_places, ties_by_hand,
+    fitting_by_hand, fraction, is_chance_by_hand, is_closed_by_hand, kinds_of, means_by_hand, read_by_hand,
+    strongly_free_places, ties_by_hand,
 )
-from tests.cases import Lists, is_made_of_tuples, outcome
+from tests.cases import Lists, outcome
 from tests.samples import (
-    full, larger_lists, lots_by_hand, odd_values, rows_by_hand, scattered, seen_by_hand, small_lists,
+    full, larger_lists, lots_by_hand, no_lots, odd_values, rows_by_hand, scattered, seen_by_hand, small_lists,
 )
 
 KINDS = ("best", "drawn", "closing", "most")
 SOME = Rules(3, [(0, 0, 0), (0, 0, 1), (0, 1, 0), (1, 1, 1)])
 OPEN = Rules(2, [(0, 1), (1, 0)])
 STEPS = Rules(3, [(0, 0, 0), (0, 0, 1), (0, 1, 1), (1, 1, 1)])
-
-
-def kinds_of(rules):
-    """The kinds of which a list has a guesser."""
-    return [kind for kind in KINDS if kind != "closing" or is_closed_by_hand(rules)]
-
-
-def is_closed_by_hand(rules):
-    rows = set(rules.rows)
-    return all(tuple(a & b for a, b in zip(one, other)) in rows for one in rows for other in rows)
 
 
 def shown_of(rules):
@@ -228,15 +219,12 @@ class Misses(Lists):
                         self.assertTrue(all(is_chance_by_hand(chance) for chance in misses))
 
     def test_wrong_lots(self):
-        spoilt_lots = [[0], [], (0, 3), (3,), (2, 0), (1, 1), (-1, 0), (0, True), (False, 2), ("0",), (0, None)]
-        right = lots_by_hand(3)
         for kind in KINDS:
             guesser = Guesser(SOME, kind)
-            for lot in odd_values() + spoilt_lots:
-                if lot not in right or not is_made_of_tuples(lot):
-                    for row in ((0, 0, 0), (1, 1, 0), None):
-                        self.assert_raises_with(InvalidLot, "value", lot, guesser.misses, lot, row)
-                        self.assert_raises_with(InvalidLot, "value", lot, guesser.misses, row=row, lot=lot)
+            for lot in no_lots(3):
+                for row in ((0, 0, 0), (1, 1, 0), None):
+                    self.assert_raises_with(InvalidLot, "value", lot, guesser.misses, lot, row)
+                    self.assert_raises_with(InvalidLot, "value", lot, guesser.misses, row=row, lot=lot)
 
     def test_wrong_rows(self):
         wrong = [(0, 1, 1), (0, 0), (0, 0, 0, 0), (False, 0, 0), (0, 0, True), [0, 0, 0], "000", None, ((0, 0, 0),)]

@@ -6,8 +6,8 @@ from nextguess.lists import Rules
 from nextguess.lotwise import mean_at, misses_at, most_mean, most_misses
 from nextguess.shares import is_below, rounded_up, share_of
 from tests.byhand import densest_by_hand, fraction, pair
-from tests.cases import Lists, is_made_of_tuples
-from tests.samples import full, larger_lists, lots_by_hand, odd_values, scattered, seen_by_hand, small_lists
+from tests.cases import Lists
+from tests.samples import full, larger_lists, lots_by_hand, no_lots, odd_values, scattered, seen_by_hand, small_lists
 
 SOME = Rules(3, [(0, 0, 0), (0, 0, 1), (0, 1, 0), (1, 1, 1)])
 EVEN = Rules(4, [(0, 0, 0, 0), (0, 0, 1, 1), (0, 1, 0, 1), (0, 1, 1, 0), (1, 0, 0, 1), (1, 0, 1, 0), (1, 1, 0, 0), (1, 1, 1, 1)])
@@ -45,11 +45,7 @@ class AtALot(Lists):
                     self.assert_told(mean_at(rules, lot), pair(densest_by_hand(seen)))
 
     def test_wrong_lots(self):
-        spoilt_lots = [[0], [], (0, 3), (3,), (2, 0), (1, 1), (-1, 0), (0, True), (False, 2), (0, 1, 2, 3), ("0",), (0, None)]
-        right = lots_by_hand(3)
-        for lot in odd_values() + spoilt_lots:
-            if lot in right and is_made_of_tuples(lot):
-                continue
+        for lot in no_lots(3):
             for ask in (misses_at, mean_at):
                 self.assert_raises_with(InvalidLot, "value", lot, ask, SOME, lot)
                 self.assert_raises_with(InvalidLot, "value", lot, ask, lot=lot, rules=SOME)

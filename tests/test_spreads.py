@@ -58,7 +58,7 @@ class Densest(Lists):
                 self.assertLessEqual(max(loads_of(rules, weights, portions)), fraction(share))
 
     def test_over_all_parts(self):
-        for rules in small_lists()[::3] + [scattered(4, 3), full(4)]:
+        for rules in small_lists()[::5] + [scattered(4, 3), scattered(5, 7, 2)]:
             for weights in WEIGHTS:
                 share = densest(len(rules), ties_by_hand(rules), weights_of(rules, weights))[0]
                 self.assertEqual(share, pair(densest_by_hand(rules, tuple((weight, 1) for weight in weights))))
