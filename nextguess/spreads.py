@@ -16,17 +16,13 @@ class Spread:
         self.arcs = [[] for _ in range(many)]
         self.ends = []
         self.room = []
-        for (i, j, _), weight in zip(ties, weights):
-            self.lay(i, j, weight)
-
-    def lay(self, i, j, weight):
-        """Share out a weight so that both rules carry alike, as far as it makes them."""
-        amount = max(0, min(weight, (self.loads[j] + weight - self.loads[i]) // 2))
-        for rule, other, carried in ((i, j, amount), (j, i, weight - amount)):
-            self.arcs[rule].append(len(self.ends))
-            self.ends.append(other)
-            self.room.append(carried)
-            self.loads[rule] += carried
+        for k, (i, j, _) in enumerate(ties):
+            self.arcs[i].append(2 * k)
+            self.arcs[j].append(2 * k + 1)
+            self.ends.extend([j, i])
+            # All is on the first rule until it is shifted.
+            self.room.extend([weights[k], 0])
+            self.loads[i] += weights[k]
 
     def settle(self, limit):
         """Shift amounts until no rule carries more than limit, and return ().
