@@ -47,6 +47,29 @@ class Settling(Lists):
                         self.assertGreater(within, limit * len(stuck))
 
 
+class Shifting(Lists):
+    def test_no_more_is_shifted_than_relieves_and_fits(self):
+        """So what is above the limit becomes less with each shift, and settling ends."""
+        for rules in (full(2), scattered(4, 3), larger_lists()[0], full(5)):
+            ties = ties_by_hand(rules)
+            for weights in WEIGHTS:
+                amounts = weights_of(rules, weights)
+                limit = -(-sum(amounts) // len(rules))
+                spread = Spread(len(rules), ties, amounts)
+                came, rule = spread.search(limit)
+                while rule is not None:
+                    ahead = list(spread.loads)
+                    spread.shift(came, rule, limit)
+                    changed = [k for k, load in enumerate(spread.loads) if load != ahead[k]]
+                    self.assertEqual(len(changed), 2)
+                    self.assertIn(rule, changed)
+                    for k in changed:
+                        low, high = (ahead[k], limit) if k == rule else (limit, ahead[k])
+                        self.assertTrue(low <= spread.loads[k] <= high)
+                    self.assertEqual(sum(spread.loads), sum(amounts))
+                    came, rule = spread.search(limit)
+
+
 class Densest(Lists):
     def test_the_greatest_density_with_part_and_portions(self):
         for rules in small_lists() + larger_lists() + largest_lists():
