@@ -40,7 +40,7 @@ class Lists(unittest.TestCase):
         self.assertTrue(is_made_of_tuples(value), value)
         self.assertEqual(value, wanted)
 
-    def assert_raises_with(self, error, attribute, value, call, *arguments, **named):
+    def assert_raises_with(self, error, attribute, value, call, /, *arguments, **named):
         """The error is raised, of just this class, and keeps the value: itself, or an equal one."""
         with self.assertRaises(error) as caught:
             call(*arguments, **named)
