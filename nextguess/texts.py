@@ -2,6 +2,7 @@
 
 from nextguess.basics import MOST_POINTS
 from nextguess.errors import InvalidText
+from nextguess.lines import Lines
 from nextguess.lists import Rules
 
 NO_VALUES = "-"
@@ -45,20 +46,25 @@ def row_told(line, size):
     return tuple([int(sign) for sign in word])
 
 
+def rules_ahead(lines):
+    """Take the lines of a list and return it; None if one is wrong or lacking, which is then ahead."""
+    size = size_told(lines.ahead())
+    if size is None:
+        return None
+    lines.take()
+    rows = []
+    row = row_told(lines.ahead(), size)
+    while row is not None and (len(rows) == 0 or rows[-1] < row):
+        rows.append(row)
+        lines.take()
+        row = row_told(lines.ahead(), size)
+    return Rules(size, rows) if len(rows) > 0 else None
+
+
 def read_rules(text):
     """Return the list whose text this is."""
-    lines = text.split("\n")
-    size = size_told(lines[0])
-    if size is None:
-        raise InvalidText(text, 0)
-    rows = []
-    at = len(lines[0]) + 1
-    for line in lines[1:]:
-        row = row_told(line, size)
-        if row is None or (len(rows) > 0 and row <= rows[-1]):
-            raise InvalidText(text, at)
-        rows.append(row)
-        at = at + len(line) + 1
-    if len(rows) == 0:
-        raise InvalidText(text, len(text))
-    return Rules(size, rows)
+    lines = Lines(text)
+    rules = rules_ahead(lines)
+    if rules is None or not lines.ended():
+        raise InvalidText(text, lines.place())
+    return rules

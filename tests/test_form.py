@@ -54,6 +54,28 @@ INTERFACE = {
         "rebuilt": ["rules", "kept"], "keeps": ["rules", "row", "lot", "kept"], "fewest_kept": ["rules", "row", "lot"],
         "most_kept": ["rules"],
     },
+    "followers": {
+        "worst_hidden": ["rules", "row", "lot", "hidden"], "chance_of_wrong": ["rules", "row", "lot", "s", "r"],
+        "wrong_bound": ["rules", "row", "lot", "s", "r"],
+    },
+    "lies": {"near": ["rules", "lies"]},
+    "kinds": {
+        "are_points": ["kind", "value"], "rules_cut": ["kind", "points"], "most_free": ["kind", "c"],
+    },
+    "bars": {
+        "bar_for": ["kind", "points", "row"], "bar_holds": ["kind", "points", "row", "reason"],
+    },
+    "teaching": {
+        "tells": ["rules", "row", "lot"], "telling_lots": ["rules", "row"], "hardest": ["rules"],
+    },
+    "questions": {
+        "is_question": ["rules", "value"], "answer_of": ["rules", "question"], "paper_of": ["rules", "question"],
+        "claim_holds": ["rules", "question", "claim", "paper"],
+    },
+    "histories": {
+        "told": ["value"], "untold": ["text"], "write_history": ["desk"], "history_holds": ["text"],
+        "relived": ["text"],
+    },
     "lotwise": {
         "misses_at": ["rules", "lot"], "mean_at": ["rules", "lot"], "most_misses": ["rules", "m"],
         "most_mean": ["rules", "m"],
@@ -70,13 +92,17 @@ METHODS = {
     ("guessers", "Guesser"): {
         "__init__": ["rules", "kind"], "__eq__": ["other"], "yes": ["shown", "point"], "misses": ["lot", "row"],
     },
+    ("desk", "Desk"): {
+        "__init__": ["rules"], "now": [], "move": ["move"], "undo": [], "redo": [], "done": [], "watch": ["question"],
+        "leave": ["question"], "watched": [], "claim": ["question"], "paper_for": ["question"],
+    },
 }
 
 BUILTINS = (
     "len range enumerate zip min max sum abs sorted reversed int str bool bytes list tuple dict set isinstance ord repr "
     "any all divmod super ValueError"
 ).split()
-VALUE_METHODS = "append count extend find get index insert items join keys pop split startswith strip values".split()
+VALUE_METHODS = "append count extend find get index insert items join keys partition pop split startswith strip values".split()
 BARRED_WORDS = (
     "register mro elements open input law version_info with_traceback add_note compile copyright credits dir eval exec "
     "exit gc globals help id importlib license locals os quit vars sys enum typing format type"
