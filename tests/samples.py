@@ -3,7 +3,9 @@
 from fractions import Fraction
 from itertools import combinations, product
 
+from nextguess.desk import Desk
 from nextguess.errors import InvalidNumber
+from nextguess.guessers import Guesser
 from nextguess.lists import Rules
 
 NO_CHANCES = [
@@ -32,6 +34,7 @@ def odd_values():
         (True,), (False,), (True, False), (0, True), (False, 1), (2, False), (-1,), (-1, 1), (0, -1), (0, 0), (2, 2), (0, None),
         (0, [1]), ((0, 1), (1, 0)), ([0], [1]), (2, 1), (1, 0, 0, 0, 0, 0, 0, 0, 0, 0, 0),
         Rules(1, [(0,)]), Rules(0, [()]), (Rules(1, [(0,)]),), InvalidNumber(0), (InvalidNumber(0), 1),
+        Guesser(Rules(1, [(1,)]), "most"), Desk(Rules(1, [(0,)])), (0, Desk(Rules(0, [()]))),
         nested(30, list), nested(30, tuple), nested(40, tuple),
     ]
 
